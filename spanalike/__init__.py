@@ -1,0 +1,1 @@
+"""Spanalike: what distances tell of marks, on a ring and on a line."""
