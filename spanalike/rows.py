@@ -2,7 +2,7 @@
 
 from math import gcd
 
-from spanalike.basics import leading_integers, need_integer, need_many, written
+from spanalike.basics import leading_integers, need_many, written
 from spanalike.checks import are_integers, first_twice, is_integer, is_listed, is_within
 from spanalike.errors import BadNumber, BadRow, BadText, Misfit, NoBeat, Twice
 

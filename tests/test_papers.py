@@ -64,6 +64,9 @@ class TestPaper(Case):
         for other in (Paper("b", 1), Paper("a", 2), Paper("a"), Paper("a", 1, 1), Denial("a", 1), None, ("a", 1), "a"):
             self.assertFalse(Paper("a", 1) == other)
             self.assertTrue(Paper("a", 1) != other)
+        for other in (Denial("b", 1), Denial("A", 1), Denial("a", 2), Denial("a", 0), Denial("a"), Paper("a", 1), None):
+            self.assertFalse(Denial("a", 1) == other)
+            self.assertTrue(Denial("a", 1) != other)
 
     def test_listed_methods_stand_in_the_classes(self):
         for kind in (Paper, Denial):
