@@ -67,7 +67,6 @@ def share_row(many, divisor):
 def share(row, divisor):
     """The share of a row at a divisor of its ring."""
     need_row(row, "row")
-    need_divisor(row.many, divisor)
     return row.product(share_row(row.many, divisor))
 
 

@@ -65,12 +65,11 @@ def is_square(number):
 def is_triangle(number):
     """Whether an integer from 0 on is m m + m n + n n for some integers m and n.
 
-    Then it is so for some m and n from 0 on, n not the greater one, and this m is the half
-    of what a root is more than n.
+    Then it is so for some m and n from 0 on, n not the greater one. Four times the integer,
+    less 3 n n, is the square of 2 m + n.
     """
     for lesser in range(isqrt(number // 3) + 1):
-        square = 4 * number - 3 * lesser * lesser
-        if is_square(square) and (isqrt(square) - lesser) % 2 == 0:
+        if is_square(4 * number - 3 * lesser * lesser):
             return True
     return False
 

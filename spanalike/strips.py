@@ -50,8 +50,6 @@ class Strip:
     def product(self, other):
         """The product of both strips."""
         need_strip(other, "other")
-        if self.length + other.length > 40:
-            raise TooMany("length", 40)
         numbers = [0] * (self.length + other.length + 1)
         for beat in self.marks:
             for behind in other.marks:

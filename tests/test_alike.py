@@ -2,6 +2,7 @@
 
 import itertools
 import math
+from unittest.mock import ANY
 
 from spanalike.alike import UnlikeSpan, alike
 from spanalike.bridges import Bridge, flip_bridge, is_bridge, joined_bridges, led, undone_bridge
@@ -14,7 +15,7 @@ from spanalike.quotients import Quotient
 from spanalike.rows import Row
 from spanalike.shares import silent_divisors
 from spanalike.spans import spans
-from tests.tools import (NO_INTEGERS, NO_LISTS, NO_ROWS, Case, all_lots, all_rows, cross, divisors, is_silent, product,
+from tests.tools import (NO_INTEGERS, NO_LISTS, NO_ROWS, Case, all_lots, all_rows, cross, divisors, product,
                          share_numbers, some_rows, units)
 
 LONG = 10 ** 3999 + 9
@@ -33,8 +34,9 @@ def is_plain_bridge(numbers, by):
 def is_the_bridge(one, numbers, by):
     """Whether a bridge has the shares of the one mark where a row is silent."""
     return all(
-        product(numbers, share_numbers(one.many, divisor)) == tuple(by * its for its in share_numbers(one.many, divisor))
-        for divisor in divisors(one.many) if is_silent(one.numbers, divisor)
+        product(numbers, shares) == tuple(by * its for its in shares)
+        for shares in [share_numbers(one.many, divisor) for divisor in divisors(one.many)]
+        if not any(product(one.numbers, shares))
     )
 
 
@@ -55,6 +57,8 @@ class TestBridges(Case):
         self.assertIs(is_bridge(numbers=list(OVER.numbers), by=4), True)
         self.assertIs(is_bridge([1] + [0] * 23, 1), True)
         self.assertIs(is_bridge([-1, 0], 1), True)
+        self.assertIs(is_bridge([3, 4], 5), False)
+        self.assertIs(is_bridge([0, 3, 4, 0], 5), False)
 
     def test_any_values(self):
         for value in NO_LISTS + NO_INTEGERS:
@@ -110,7 +114,9 @@ class TestBridges(Case):
         for value in NO_ROWS:
             self.refused(BadRow, ("row",), led, value, None)
         self.refused(Misfit, ("beats",), joined_bridges, one, OVER)
+        self.refused(Misfit, ("beats",), joined_bridges, OVER, one)
         self.refused(Misfit, ("beats",), led, Row([1, 0]), OVER)
+        self.refused(Misfit, ("beats",), led, ONE, one)
 
     def test_flips_refused(self):
         for value in NO_INTEGERS + (1, 25):
@@ -174,6 +180,7 @@ class TestAlike(Case):
                 self.refused(BadRow, ("one",), function, value, value)
                 self.refused(BadRow, ("other",), function, ONE, value)
             self.refused(Misfit, ("beats",), function, ONE, Row([1, 0]))
+            self.refused(Misfit, ("beats",), function, Row([1, 0]), ONE)
 
     def test_other_right_bridges(self):
         flip = flip_bridge(8, [2])
@@ -184,14 +191,17 @@ class TestAlike(Case):
         self.assertIs(shows_alike(ONE, ONE, OVER), False)
 
     def test_bent_papers(self):
-        for value in (Bridge([1, 1, 1, -3, 1, 1, 1, True], 4), Bridge([2, 2, 2, -6, 2, 2, 2, 2], 8), Bridge(OVER.numbers, 5),
+        for value in (Bridge([1, 1, 1, -3, 1, 1, 1, True], 4), Bridge([2, 2, 2, -6, 2, 2, 2, 2], 8),
+                      Bridge(OVER.numbers, 5),
                       Bridge(OVER.numbers, -4), Bridge([1, 0], 1), Bridge(None, None), Bridge(OVER.numbers, 4.0),
                       Paper("bridge", OVER.numbers, 4), Quotient(OVER.numbers, 4), OVER.parts, None, True, 0, "",
-                      UnlikeSpan(0), UnlikeSpan(8), UnlikeSpan(True), UnlikeSpan(None)):
+                      UnlikeSpan(0), UnlikeSpan(8), UnlikeSpan(True), UnlikeSpan(None), ANY, Bridge(ANY, 4),
+                      Bridge(OVER.numbers, ANY), Bridge([1] + [0] * 8, 1), Bridge([1] + [0] * 23, 1)):
             self.assertIs(shows_alike(ONE, OTHER, value), False)
         unlike = Row.of(8, [0, 1, 2, 4])
         self.assertIs(shows_alike(ONE, unlike, UnlikeSpan(2)), True)
-        for value in (UnlikeSpan(True), UnlikeSpan(2.0), UnlikeSpan("2"), UnlikeSpan([2]), UnlikeSpan(10), UnlikeSpan(-6),
+        for value in (UnlikeSpan(True), UnlikeSpan(2.0), UnlikeSpan("2"), UnlikeSpan([2]), UnlikeSpan(10),
+                      UnlikeSpan(-6),
                       Denial("unlikespan", 2), OVER):
             self.assertIs(shows_alike(ONE, unlike, value), False)
 
@@ -264,7 +274,9 @@ class TestFamilies(Case):
                       Family([lot.turned(1) for lot in lots], bridges), Family([lot.numbers for lot in lots], bridges),
                       Family(None, bridges), Family(lots, None), Family(lots, [None, None]), Family(True, True),
                       Family(lots, [bridges[0].parts, bridges[1].parts]), Family(lots, [Bridge([1, 0], 1)] * 2),
-                      Family(lots, list(bridges) + [None]), Paper("family", lots, bridges), (lots, bridges), None, True,
+                      Family(lots, list(bridges) + [None]), ANY, Family([ANY, ANY], bridges),
+                      Family(lots, [ANY, ANY]), Family(ANY, bridges), Paper("family", lots, bridges), (lots, bridges), None,
+                      True,
                       5, "family", OVER):
             self.assertIs(shows_family(ONE, value), False)
 

@@ -2,6 +2,7 @@
 
 import itertools
 import math
+from unittest.mock import ANY
 
 from spanalike.check_spans import shows_bar, shows_lot
 from spanalike.errors import BadNumber, NoDivisor, TooMany
@@ -68,8 +69,9 @@ def some_counts():
     for size in range(9):
         for counts in itertools.product(range(3), repeat=4):
             yield 8, size, counts
-    for size, counts in ((4, (1, 1, 1, 1, 1, 1)), (6, (3, 3, 3, 2, 3, 1)), (5, (2, 2, 1, 2, 2, 1)), (3, (1, 1, 0, 0, 1, 0)),
-                         (7, (4, 3, 4, 3, 4, 3)), (4, (0, 0, 6, 0, 0, 0)), (4, (6, 0, 0, 0, 0, 0)), (4, (0, 0, 0, 1, 3, 2)),
+    for size, counts in ((4, (1, 1, 1, 1, 1, 1)), (6, (3, 3, 3, 2, 3, 1)), (5, (2, 2, 1, 2, 2, 1)),
+                         (3, (1, 1, 0, 0, 1, 0)), (7, (4, 3, 4, 3, 4, 3)), (4, (0, 0, 6, 0, 0, 0)), (4, (6, 0, 0, 0, 0, 0)),
+                         (4, (0, 0, 0, 1, 3, 2)),
                          (6, (0, 0, 2, 2, 7, 4)), (9, (2, 0, 8, 8, 8, 10))):
         yield 12, size, counts
 
@@ -90,7 +92,10 @@ class TestNumbers(Case):
             lambda many, size, counts: number_at(many, size, counts, None),
             counts_bar, some_lot,
             lambda many, size, counts: shows_bar(many, size, counts, None),
+            lambda many, size, counts: shows_bar(many, size, counts, 5),
+            lambda many, size, counts: shows_bar(many, size, counts, CountsBar("share", 2)),
             lambda many, size, counts: shows_lot(many, size, counts, None),
+            lambda many, size, counts: shows_lot(many, size, counts, NoLot()),
         )
         for function in calls:
             for value in NO_INTEGERS + (1, 25):
@@ -141,9 +146,11 @@ class TestBars(Case):
 
     def test_bent_bars(self):
         self.assertIs(shows_bar(8, 1, [1, 0, 0, 0], CountsBar("pairs", 1)), True)
-        for value in (CountsBar("pairs", True), CountsBar("pairs", 1.0), CountsBar("pairs", "1"), CountsBar(["pairs"], 1),
+        for value in (CountsBar("pairs", True), CountsBar("pairs", 1.0), CountsBar("pairs", "1"),
+                      CountsBar(["pairs"], 1),
                       CountsBar("pairs", None), CountsBar(None, 1), Denial("countsbar", "pairs", 1), NoLot(),
-                      Paper("countsbar", "pairs", 1), ("pairs", 1), "pairs", 1, True, False, [], object()):
+                      Paper("countsbar", "pairs", 1), ("pairs", 1), "pairs", 1, True, False, [], object(),
+                      CountsBar(ANY, 1), CountsBar("pairs", ANY), CountsBar(ANY, ANY), ANY):
             self.assertIs(shows_bar(8, 1, [1, 0, 0, 0], value), False)
         # 1 is barred as no square, and True is no number
         self.assertIs(shows_bar(2, 0, [3], CountsBar("share", 2)), True)
@@ -185,8 +192,14 @@ class TestLots(Case):
         self.assertIs(shows_lot(8, 3, (1, 1, 1, 0), HasLot(lot)), True)
         for value in (HasLot(None), HasLot((1, 1, 0, 1, 0, 0, 0, 0)), HasLot([0, 1, 3]), HasLot(Row.of(9, [0, 1, 3])),
                       HasLot(lot.times(-1)), HasLot(True), NoLot(), Paper("haslot", lot), Denial("nolot"), lot, None,
-                      True, 5, "lot", [lot], CountsBar("pairs", 3)):
+                      True, 5, "lot", [lot], CountsBar("pairs", 3), HasLot(Row([3] + [0] * 7)), HasLot(ANY), ANY):
             self.assertIs(shows_lot(8, 3, (1, 1, 1, 0), value), False)
+            if value != NoLot():
+                self.assertIs(shows_lot(8, 3, (1, 1, 1, 1), value), False)
+        self.assertIs(shows_lot(8, 1, [0] * 4, HasLot(Row.of(8, []))), False)
+        self.assertIs(shows_lot(8, 0, [0] * 4, HasLot(Row.of(8, [1]))), False)
+        self.assertIs(shows_lot(9, 1, [0] * 4, HasLot(Row.of(8, [1]))), False)
+        self.assertIs(shows_lot(8, 1, [0] * 4, HasLot(Row.of(9, [1]))), False)
 
     def test_sixteen_beats_and_seventeen(self):
         counts = [4, 4, 4, 4, 4, 4, 3, 1]

@@ -40,10 +40,12 @@ def line_spans(numbers):
 class TestMaking(Case):
     def test_attributes(self):
         strip = Strip([3, 0, -1])
-        self.just([strip.numbers, strip.length, strip.total, strip.is_lot, strip.marks], [(3, 0, -1), 2, 2, False, (0, 2)])
+        told = [strip.numbers, strip.length, strip.total, strip.is_lot, strip.marks]
+        self.just(told, [(3, 0, -1), 2, 2, False, (0, 2)])
         lot = Strip((1, 0, 1, 1))
         self.just([lot.numbers, lot.length, lot.total, lot.is_lot, lot.marks], [(1, 0, 1, 1), 3, 3, True, (0, 2, 3)])
-        self.just([Strip([1]).is_lot, Strip([2]).is_lot, Strip([-1]).is_lot, Strip([5]).length], [True, False, False, 0])
+        self.just([Strip([number]).is_lot for number in (1, 2, -1)], [True, False, False])
+        self.just(Strip([5]).length, 0)
 
     def test_refused(self):
         for value in NO_LISTS + ([], (), [0], [0, 1], [1, 0], [0] * 50):
@@ -125,6 +127,7 @@ class TestOf(Case):
             self.refused(BadStrip, ("marks",), Strip.of, [1, 1, value])
         self.refused(Twice, (3,), Strip.of, [99, 3, 0, 3, 0])
         self.refused(TooMany, ("length", 40), Strip.of, [0, 41])
+        self.refused(TooMany, ("length", 40), Strip.of, [0, LONG])
         self.refused(TooMany, ("length", 40), Strip.of, list(range(1000)))
 
 
@@ -134,6 +137,7 @@ class TestTexts(Case):
             self.assertEqual(str(strip), " ".join(str(number) for number in strip.numbers))
             self.assertTrue(Strip.read(str(strip)) == strip)
         self.just(Strip.read(text=" ".join(["1"] * 41)).length, 40)
+        self.just(Strip.read(" ".join(["-1"] * 41)).total, -41)
         self.assertEqual(str(Strip([LONG])), str(LONG))
 
     def test_what_is_no_text(self):
