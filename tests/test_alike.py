@@ -275,8 +275,8 @@ class TestFamilies(Case):
                       Family(None, bridges), Family(lots, None), Family(lots, [None, None]), Family(True, True),
                       Family(lots, [bridges[0].parts, bridges[1].parts]), Family(lots, [Bridge([1, 0], 1)] * 2),
                       Family(lots, list(bridges) + [None]), ANY, Family([ANY, ANY], bridges),
-                      Family(lots, [ANY, ANY]), Family(ANY, bridges), Paper("family", lots, bridges), (lots, bridges), None,
-                      True,
+                      Family(lots, [ANY, ANY]), Family(ANY, bridges), Paper("family", lots, bridges), (lots, bridges),
+                      None, True,
                       5, "family", OVER):
             self.assertIs(shows_family(ONE, value), False)
 

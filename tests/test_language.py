@@ -23,8 +23,8 @@ BUILTINS = set(
 )
 METHODS = set(
     "append clear copy count endswith extend find get index insert isalnum isalpha isdigit islower isspace isupper"
-    " items join keys ljust lower lstrip partition pop remove replace reverse rfind rjust rpartition rsplit rstrip setdefault"
-    " split splitlines startswith strip update upper values zfill bit_length add discard".split()
+    " items join keys ljust lower lstrip partition pop remove replace reverse rfind rjust rpartition rsplit rstrip"
+    " setdefault split splitlines startswith strip update upper values zfill bit_length add discard".split()
 )
 DUNDERS = {"__init__", "__eq__", "__repr__", "__str__", "__len__", "__call__", "__bool__", "__contains__"}
 WORDS = (
@@ -281,7 +281,7 @@ class TestLanguage(unittest.TestCase):
                 if isinstance(node, ast.Name) and node.id in known:
                     around = above[node]
                     called = isinstance(around, ast.Call) and around.func is node
-                    asked = isinstance(around, ast.Call) and around.args[0] is not node
+                    asked = isinstance(around, ast.Call) and node in around.args[1:]
                     asked = asked and around.func.id == "isinstance"
                     base = isinstance(around, ast.ClassDef)
                     method = isinstance(around, ast.Attribute) and isinstance(above[around], ast.Call)
