@@ -84,3 +84,18 @@ def leading_integers(text, most):
             return numbers, index
         numbers.append(number)
     return numbers, None
+
+
+def need_item(items, index):
+    """Raises BadText if a text has no item there."""
+    if index >= len(items):
+        raise BadText(0, index)
+
+
+def integer_at(items, index, least, most):
+    """The integer that an item of a text tells; BadText for none from least to most."""
+    need_item(items, index)
+    number = integer_of(items[index])
+    if not is_within(number, least, most):
+        raise BadText(0, index)
+    return number

@@ -54,6 +54,11 @@ def signs_of(many, marks):
     return signs
 
 
+def lot_of_signs(many, signs):
+    """The lot that such an integer tells."""
+    return Row([(signs >> (many - 1 - beat)) & 1 for beat in range(many)])
+
+
 def highest_turn(many, signs):
     """The greatest integer of all turned forms: that of the least lot of the class."""
     highest = signs

@@ -28,14 +28,19 @@ def spans(row):
     return cross_spans(row, row)
 
 
-def distances(lot):
+def counts_of(lot):
     """The tuple of the counts of a lot."""
-    need_lot(lot, "lot")
     found = spans(lot)
     return tuple([
         found[distance] // 2 if 2 * distance == lot.many else found[distance]
         for distance in range(1, lot.many // 2 + 1)
     ])
+
+
+def distances(lot):
+    """The tuple of the counts of a lot."""
+    need_lot(lot, "lot")
+    return counts_of(lot)
 
 
 def coming(lot):

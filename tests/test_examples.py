@@ -59,7 +59,7 @@ class TestExamples(unittest.TestCase):
     def test_each_shows_what_it_shows(self):
         names = names_of_the_package()
         told = examples()
-        self.assertGreaterEqual(len(told), 40)
+        self.assertGreaterEqual(len(told), 80)
         for section, line, wanted in told:
             with self.subTest(section=section, line=line):
                 self.assertEqual(shown(line, names), wanted)

@@ -29,7 +29,10 @@ METHODS = set(
 DUNDERS = {"__init__", "__eq__", "__repr__", "__str__", "__len__", "__call__", "__bool__", "__contains__"}
 WORDS = (
     "typing typing_extensions enum Enum IntEnum StrEnum Flag IntFlag Generic Protocol ABC ABCMeta namedtuple NamedTuple"
-    " TypedDict TYPE_CHECKING abstractmethod register mro elements open input law version_info with_traceback add_note"
+    " TypedDict TYPE_CHECKING abstractmethod"
+).split()
+NO_NAMES = (
+    "register mro elements open input law version_info with_traceback add_note"
     " attrgetter breakpoint compile copyright credits delattr dir eval exec exit gc getattr globals hasattr help id"
     " importlib license locals methodcaller os quit setattr super vars sys"
 ).split()
@@ -106,8 +109,8 @@ def parents(tree):
     return {child: node for node in ast.walk(tree) for child in ast.iter_child_nodes(node)}
 
 
-def code_words(tree):
-    """All names, attributes, parameters and strings of a file but docstrings."""
+def string_words(tree):
+    """The words of all strings of a file but docstrings."""
     notes = set()
     for node in ast.walk(tree):
         if isinstance(node, (ast.Module, ast.ClassDef, ast.FunctionDef)) and ast.get_docstring(node):
@@ -115,7 +118,12 @@ def code_words(tree):
     for node in ast.walk(tree):
         if isinstance(node, ast.Constant) and isinstance(node.value, str) and node not in notes:
             yield from node.value.replace(",", " ").split()
-        elif isinstance(node, ast.Name):
+
+
+def code_names(tree):
+    """All names, attributes and parameters of a file."""
+    for node in ast.walk(tree):
+        if isinstance(node, ast.Name):
             yield node.id
         elif isinstance(node, ast.Attribute):
             yield node.attr
@@ -238,9 +246,11 @@ class TestLanguage(unittest.TestCase):
 
     def test_words(self):
         for name, tree in self.each():
-            words = set(code_words(tree))
+            names, strings = set(code_names(tree)), set(string_words(tree))
             for word in WORDS:
-                self.assertNotIn(word, words)
+                self.assertNotIn(word, names | strings)
+            for word in NO_NAMES:
+                self.assertNotIn(word, names)
 
     def test_builtins_and_methods(self):
         methods, known = own_methods(), {word for tree in TREES.values() for word in top_names(tree)}
@@ -281,8 +291,10 @@ class TestLanguage(unittest.TestCase):
                 if isinstance(node, ast.Name) and node.id in known:
                     around = above[node]
                     called = isinstance(around, ast.Call) and around.func is node
-                    asked = isinstance(around, ast.Call) and node in around.args[1:]
-                    asked = asked and around.func.id == "isinstance"
+                    if isinstance(around, ast.Tuple):
+                        around = above[around]
+                    asked = isinstance(around, ast.Call) and node not in around.args[:1]
+                    asked = asked and isinstance(around.func, ast.Name) and around.func.id == "isinstance"
                     base = isinstance(around, ast.ClassDef)
                     method = isinstance(around, ast.Attribute) and isinstance(above[around], ast.Call)
                     compared = isinstance(around, ast.Compare) and self.asks_the_class(around.left)

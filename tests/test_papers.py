@@ -1,18 +1,37 @@
 """Papers and denials."""
 
 from spanalike.alike import UnlikeSpan
+from spanalike.alike_strips import Factors, UnlikeDistance
+from spanalike.asking import Asked, Known
 from spanalike.bridges import Bridge
 from spanalike.families import Family
+from spanalike.flat_lots import NoFlat
+from spanalike.flats import Bent, Flat
+from spanalike.judged import Always, LotKept, Never, NoLotKept, Open
 from spanalike.papers import Denial, Paper, fixed
 from spanalike.quotients import NoQuotient, Quotient
+from spanalike.rebuilt import Told
 from spanalike.rows import Row
+from spanalike.same_pieces import SamePieces, UnlikePiece
 from spanalike.span_bars import CountsBar, HasLot, NoLot
+from spanalike.telling import Kin, Telling
+from spanalike.thin import MostThin
+from spanalike.told_strips import StripBar
+from spanalike.wrong import MoreWrong, OneWrong, Right
 from tests.tools import Case
 
 PAPERS = (
     (HasLot, ("lot",), True), (Quotient, ("numbers", "by"), True), (Bridge, ("numbers", "by"), True),
     (Family, ("lots", "bridges"), True), (CountsBar, ("kind", "number"), False), (NoLot, (), False),
     (NoQuotient, ("divisor",), False), (UnlikeSpan, ("beat",), False),
+    (Factors, ("common", "rest", "sign"), True), (UnlikeDistance, ("distance",), False),
+    (StripBar, ("kind", "number"), False), (SamePieces, ("size",), True),
+    (UnlikePiece, ("piece", "here", "there"), False), (Told, ("size", "rivals"), True), (LotKept, ("lot",), True),
+    (NoLotKept, ("numbers",), False), (Always, ("many",), True), (Open, ("one", "other"), True),
+    (Never, ("many",), False), (Telling, ("distances", "rivals"), True), (Kin, ("lot",), False),
+    (Right, ("lot",), True), (OneWrong, ("rows",), False), (MoreWrong, (), False),
+    (Asked, ("distance", "most"), True), (Known, ("lot",), True), (Flat, ("number",), True),
+    (Bent, ("one", "other"), False), (NoFlat, ("reason",), False), (MostThin, ("lot", "reason"), True),
 )
 
 
@@ -75,8 +94,8 @@ class TestPaper(Case):
 
 class TestClassesOfPapers(Case):
     def test_word_parts_and_attributes(self):
-        values = [[1, [2]], "text"]
-        wanted = [(1, (2,)), "text"]
+        values = [[1, [2]], "text", [3]]
+        wanted = [(1, (2,)), "text", (3,)]
         for kind, names, is_true in PAPERS:
             told = values[:len(names)]
             for paper in (kind(*told), kind(**dict(zip(names, told)))):
