@@ -64,8 +64,8 @@ def need_left_out(many, lot_size, told):
 
 
 def turns_of_three(many, piece):
-    """How many turnings keep a piece of three."""
-    return 3 if piece[1] * 3 == many and piece[2] == 2 * piece[1] else 1
+    """How many turnings keep a piece of three, whose first gap is its least one."""
+    return 3 if piece[1] * 3 == many else 1
 
 
 def left_out_threes(many, lot_size, distances, threes):

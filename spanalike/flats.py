@@ -46,7 +46,7 @@ def hall_turns(lot):
     if not word:
         raise Impossible(word)
     number = word.number
-    if lot.total == number or lot.total - number < 0:
+    if lot.total == number:
         return ()
     primes = [prime for prime in primes_of(lot.total - number) if prime > number and lot.many % prime != 0]
     return tuple([(prime, turn_to(lot, lot.stretched(prime % lot.many))) for prime in primes])

@@ -2,7 +2,7 @@
 
 from spanalike.basics import need_at_most, need_integer
 from spanalike.papers import Paper
-from spanalike.rows import Row, need_lot
+from spanalike.rows import Row
 from spanalike.span_bars import counts_left
 from spanalike.spans import distances
 
@@ -18,21 +18,21 @@ class MostThin(Paper):
 
 def twice_come(lot):
     """The ascending tuple of the distances that come twice or more often."""
-    need_lot(lot, "lot")
     return tuple([index + 1 for index, count in enumerate(distances(lot)) if count > 1])
 
 
 def is_thin(lot):
     """Whether each distance comes once at most in a lot."""
-    need_lot(lot, "lot")
     return twice_come(lot) == ()
 
 
 def bound_of(many):
-    """How many marks a thin lot has at most, by counting pairs."""
-    most = many if many % 2 == 0 else many - 1
+    """How many marks a thin lot has at most, by counting pairs.
+
+    Twice the pairs are an even number, so on an odd number of beats not many of them either.
+    """
     size = 1
-    while (size + 1) * size <= most:
+    while (size + 1) * size <= many:
         size += 1
     return size
 

@@ -70,7 +70,7 @@ def marks_told(told):
     """The ascending list of the marks of all lots on a line with these distances."""
     length = len(told)
     size = size_of_pairs(sum(told))
-    if size is None or size > length + 1:
+    if size is None:
         return []
     if length == 0:
         return [(0,)]

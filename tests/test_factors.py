@@ -200,6 +200,9 @@ class TestShown(Case):
             self.assertIs(shows_alike_strips(one, other, Factors(common, rest, sign)), True)
             for there in (other.times(-1), other.times(2), common.product(rest.backward()).product(Strip([1, 1]))):
                 self.assertIs(shows_alike_strips(one, there, Factors(common, rest, sign)), False)
+            for times in (2, -2, 0):
+                there = other.times(times or 1)
+                self.assertIs(shows_alike_strips(one, there, Factors(common, rest, times)), False)
             for here in (one.times(-1), one.product(Strip([1, 1]))):
                 self.assertIs(shows_alike_strips(here, other, Factors(common, rest, sign)), False)
 
@@ -209,6 +212,8 @@ class TestShown(Case):
             wanted = distance in (1, 3)
             self.assertIs(shows_alike_strips(one, other, UnlikeDistance(distance)), wanted)
             self.assertIs(shows_alike_strips(one, one, UnlikeDistance(distance)), False)
+            wanted = distance in (0, 1, 2)
+            self.assertIs(shows_alike_strips(Strip([1, 1, 2]), Strip([2, 2, 2]), UnlikeDistance(distance)), wanted)
         self.assertIs(shows_alike_strips(one, other, UnlikeDistance(LONG)), False)
 
     def test_bent_papers(self):

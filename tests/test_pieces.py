@@ -289,7 +289,7 @@ class TestSame(Case):
     def test_bent_papers(self):
         self.assertIs(shows_same_pieces(FOUR, OTHER, 3, UnlikePiece((0, 1, 3), 0, 1)), True)
         for value in (
-            UnlikePiece((0, 1, 3), False, True), UnlikePiece((0, 1, 3), 0, True), UnlikePiece((0, 1, 3), 0, 1.0),
+            UnlikePiece((0, 1, 3), False, True), UnlikePiece((0, 1, 3), False, 1), UnlikePiece((0, 1, 3), 0, True), UnlikePiece((0, 1, 3), 0, 1.0),
             UnlikePiece((0, 1, 3), None, 1), UnlikePiece((0, True, 3), 0, 1), UnlikePiece((1, 2, 4), 0, 1),
             UnlikePiece((0, 3, 1), 0, 1), UnlikePiece((0, 1), 0, 1), UnlikePiece((0, 1, 3, 7), 0, 1),
             UnlikePiece(None, 0, 1), UnlikePiece("013", 0, 1), UnlikePiece(ANY, 0, 1), UnlikePiece((0, 1, 3), ANY, 1),

@@ -1,6 +1,7 @@
 """Sayings: values, edges, refusals, when they fit and are kept, and their texts."""
 
 import itertools
+from unittest.mock import ANY
 
 from spanalike.errors import BadNumber, BadPiece, BadRow, BadSaying, BadText, Misfit, Twice
 from spanalike.rows import Row
@@ -9,7 +10,7 @@ from tests.tools import NO_INTEGERS, NO_LISTS, NO_ROWS, NO_TEXTS, Case, all_lots
 
 LONG = 10 ** 3999 + 9
 KINDS = ("=", ">=", "<=")
-NO_KINDS = ("==", "<", ">", "", "= ", None, 1, True, ["="], ("=",), b"=", object())
+NO_KINDS = ("==", "<", ">", "", "= ", None, 1, True, ["="], ("=",), b"=", object(), ANY)
 NO_LOTS = NO_ROWS + (Row([0, 2, 1]), Row([-1, 0]))
 CLASSES = (HeardDistance, HeardSize, HeardPiece, HeardSum, MarkedBeat, FreeBeat)
 
@@ -116,6 +117,14 @@ class TestMaking(Case):
                 self.assertIn(name, vars(kind))
         self.assertIn("read", vars(Saying))
 
+    def test_a_bare_one_fits_no_ring(self):
+        bare = Saying()
+        self.just([bare.fits(2), bare.fits(many=24), str(bare), bare == Saying()], [False, False, "saying", True])
+        self.just([bare == HeardSize("=", 1), bare == 5], [False, False])
+        self.refused(BadNumber, ("many",), bare.fits, 25)
+        self.refused(BadRow, ("lot",), bare.keeps, None)
+        self.refused(Misfit, ("beats",), bare.keeps, Row([1, 0]))
+
     def test_equality(self):
         told = [
             lambda: HeardDistance(1, "=", 2), lambda: HeardDistance(2, "=", 2), lambda: HeardDistance(1, ">=", 2),
@@ -125,6 +134,7 @@ class TestMaking(Case):
             lambda: HeardPiece([0, 1], "=", 0), lambda: HeardSum([(1, 1)], "=", 2), lambda: HeardSum([(1, 2)], "=", 2),
             lambda: HeardSum([(1, 1), (2, 1)], "=", 2), lambda: HeardSum([(1, 1)], ">=", 2),
             lambda: HeardSum([(1, 1)], "=", 1), lambda: MarkedBeat(1), lambda: MarkedBeat(2), lambda: FreeBeat(1),
+            lambda: FreeBeat(2), lambda: FreeBeat(0),
             lambda: None, lambda: 1, lambda: "marked 1",
         ]
         for (here, one), (there, other) in itertools.product(enumerate(told), repeat=2):
@@ -180,7 +190,7 @@ class TestTexts(Case):
             (HeardDistance(3, "=", 2), "distance 3 = 2"), (HeardSize(">=", 4), "size >= 4"),
             (HeardPiece([0, 1, 4], "<=", 1), "piece 0 1 4 <= 1"),
             (HeardSum([(3, -1), (1, 2)], ">=", 0), "sum 1 2 3 -1 >= 0"), (MarkedBeat(3), "marked 3"),
-            (FreeBeat(0), "free 0"), (HeardSum([(12, -9)], "=", -5), "sum 12 -9 = -5"),
+            (FreeBeat(0), "free 0"), (FreeBeat(23), "free 23"), (MarkedBeat(0), "marked 0"), (HeardSum([(12, -9)], "=", -5), "sum 12 -9 = -5"),
             (HeardPiece([0, 1, 2, 3, 23], "=", 0), "piece 0 1 2 3 23 = 0"), (MarkedBeat(23), "marked 23"),
             (HeardSum([(d, d) for d in range(6, 0, -1)], "=", 0), "sum 1 1 2 2 3 3 4 4 5 5 6 6 = 0"),
             (HeardDistance(12, "=", 10 ** 60 - 1), "distance 12 = " + "9" * 60),
@@ -215,7 +225,7 @@ class TestTexts(Case):
             ("distance  3 = 2", 1), ("distance 3 = -1", 3), ("distance 3 = -0", 3), ("distance 3 = x", 3),
             ("distance 3 = +2", 3), ("distance 3 = " + "1" * 61, 3), ("distance 3 = ", 3),
             ("size 3", 1), ("size = x", 2), ("size = -1", 2), ("size = 1.0", 2),
-            ("piece 1 2 = 0", 1), ("piece = 1", 1), ("piece x", 1), ("piece 00 1 = 1", 1), ("piece 0 = 1", 2),
+            ("piece 1 2 = 0", 1), ("piece -1 2 = 0", 1), ("piece = 1", 1), ("piece x", 1), ("piece 00 1 = 1", 1), ("piece 0 = 1", 2),
             ("piece 0 0 = 1", 2), ("piece 0 24 = 1", 2), ("piece 0 -1 = 1", 2), ("piece 0 2 2 = 1", 3),
             ("piece 0 2 1 = 1", 3), ("piece 0 23 24 = 1", 3), ("piece 0 1 2 3 4 5 = 1", 6), ("piece 0 1 x = 1", 3),
             ("piece 0 1 > 1", 3), ("piece 0 1 = -1", 4), ("piece 0 23 x", 3), ("piece 0 1 = =", 4),
@@ -223,7 +233,7 @@ class TestTexts(Case):
             ("sum 1 = 0", 2), ("sum 1 1 1 1 = 0", 3), ("sum 2 1 1 1 = 0", 3), ("sum 1 1 2 = 0", 4),
             ("sum 12 1 13 1 = 0", 3), ("sum 12 1 12 1 = 0", 3), ("sum 1 1 2 2 3 3 4 4 5 5 6 6 7 7 = 0", 13),
             ("sum 1 1 = x", 4), ("sum 1 1 = --1", 4), ("sum 1 -0 = 0", 2), ("sum 1 1 x", 3),
-            ("marked 24", 1), ("marked -1", 1), ("marked x", 1), ("free 24", 1), ("free 01", 1), ("free ", 1),
+            ("marked 24", 1), ("marked -1", 1), ("marked x", 1), ("free 24", 1), ("free -1", 1), ("free 01", 1), ("free ", 1),
             ("marked = 1", 1),
         ):
             self.refused(BadText, (0, item), Saying.read, text)
