@@ -360,7 +360,8 @@ class TestTold(Case):
         for value in (
             Told(3, [two]), Told(3, []), Told(3, [two, one]), Told(3, [one, two, two]), Told(2, [one]),
             Told(4, [one, two]), Told(True, [one, two]), Told(3.0, [one, two]), Told("3", [one, two]),
-            Told(None, [one, two]), Told(3, None), Told(3, one), Told(3, [one.marks, two.marks]), Told(3, [one, None]),
+            Told(None, [one, two]), Told(3, None), Told(3, one), Told(3, [one.marks, two.marks]),
+            Told(3, [Row([3, -1, 1, 1] + [0] * 8), two]), Told(3, [one, None]),
             Told(3, [Row.of(13, one.marks), two]), Told(3, [one.times(2), two]), Told(3, [one, FOUR]),
             Told(3, [one, FOUR.turned(2)]), Told(3, [ANY, two]), Told(ANY, [one, two]), Told(3, ANY), ANY,
             Paper("told", 3, (one, two)), (3, (one, two)), None, True, 3,

@@ -139,6 +139,7 @@ class TestTelling(Case):
             Telling(1, [rival]), Telling(None, [rival]), Telling([ANY], [rival]), Telling(ANY, [rival]),
             Telling([1], [ANY]), Telling([1], ANY), Telling([1], rival), Telling([1], []), Telling([1], [rival, rival]),
             Telling([1], [rival.marks]), Telling([1], [None]), Telling([1], [lot]), Telling([1], [lot.turned(1)]),
+            Telling([1], [Row([2, 0, 2, -1, 0, 0, 0, 0])]), Kin(Row([2, 0, 2, -1, 0, 0, 0, 0])),
             Telling([1], [Row.of(9, [0, 2, 3])]), Telling([1], [rival.times(2)]), Telling([2], [rival]),
             Telling([1, 2], [rival] * 4), Telling([], []), Telling([5], [rival]), Telling([0], [rival]),
             Telling([-3], [rival]), Paper("telling", (1,), (rival,)), ((1,), (rival,)), None, True, ANY, Kin(rival),
