@@ -289,7 +289,8 @@ class TestSame(Case):
     def test_bent_papers(self):
         self.assertIs(shows_same_pieces(FOUR, OTHER, 3, UnlikePiece((0, 1, 3), 0, 1)), True)
         for value in (
-            UnlikePiece((0, 1, 3), False, True), UnlikePiece((0, 1, 3), False, 1), UnlikePiece((0, 1, 3), 0, True), UnlikePiece((0, 1, 3), 0, 1.0),
+            UnlikePiece((0, 1, 3), False, True), UnlikePiece((0, 1, 3), False, 1), UnlikePiece((0, 1, 3), 0, True),
+            UnlikePiece((0, 1, 3), 0, 1.0),
             UnlikePiece((0, 1, 3), None, 1), UnlikePiece((0, True, 3), 0, 1), UnlikePiece((1, 2, 4), 0, 1),
             UnlikePiece((0, 3, 1), 0, 1), UnlikePiece((0, 1), 0, 1), UnlikePiece((0, 1, 3, 7), 0, 1),
             UnlikePiece(None, 0, 1), UnlikePiece("013", 0, 1), UnlikePiece(ANY, 0, 1), UnlikePiece((0, 1, 3), ANY, 1),
@@ -439,6 +440,8 @@ class TestFacts(Case):
                 leasts = class_leasts(many, size)
                 told = {pieces(Row.of(many, marks), 3) for marks in leasts}
                 self.assertEqual(len(leasts) - len(told), 1 if (many, size) == (12, 6) else 0)
+                if size > 3:
+                    self.assertEqual(len({pieces(Row.of(many, marks), 4) for marks in leasts}), len(leasts))
         found = lots_with_pieces(Row.of(12, [0, 1, 3, 4, 5, 8]), 3)
         self.assertEqual([lot.marks for lot in found], [(0, 1, 2, 4, 5, 9), (0, 1, 2, 5, 9, 10)])
         self.assertEqual(piece(12, tuple(-beat for beat in found[0].marks)), found[1].marks)
