@@ -1,7 +1,6 @@
 """What to ask next, and which sayings are idle or quarrel."""
 
-from itertools import combinations
-
+from spanalike.basics import choices_below
 from spanalike.books import need_book
 from spanalike.errors import TooMany
 from spanalike.families import marks_of
@@ -92,11 +91,6 @@ def idle_sayings(book):
     return tuple(idle)
 
 
-def numbers_of(many, count):
-    """The list of all tuples of so many numbers below many, ascending."""
-    return list(combinations(range(many), count))
-
-
 def holds_all(numbers, others):
     """Whether all the others are among the numbers."""
     return all([other in numbers for other in others])
@@ -110,7 +104,7 @@ def quarrels(book):
     keepers = keepers_of(book)
     found = []
     for count in range(1, len(book) + 1):
-        for numbers in numbers_of(len(book), count):
+        for numbers in choices_below(len(book), count):
             is_spared = any([holds_all(numbers, others) for others in found])
             if not is_spared and kept_together(book.many, keepers, numbers) == 0:
                 found.append(numbers)

@@ -1,5 +1,6 @@
-"""What several parts of the package need: bounds of arguments, texts, common divisors."""
+"""What several parts of the package need: bounds of arguments, texts, common divisors, choices."""
 
+from itertools import combinations
 from math import gcd
 
 from spanalike.checks import DIGITS, is_within
@@ -46,6 +47,11 @@ def reduced(numbers, by):
     for number in numbers:
         divisor = gcd(divisor, number)
     return tuple([number // divisor for number in numbers]), by // divisor
+
+
+def choices_below(many, count):
+    """The list of all tuples of so many numbers below many, ascending."""
+    return list(combinations(range(many), count))
 
 
 def written(number):

@@ -50,15 +50,18 @@ def is_least_wide(many, marks):
     return highest_turn(many, signs_of(many, backward)) <= signs_of(many, marks)
 
 
+def leasts_of_size(many, size):
+    """The ascending list of the least lots of all wide classes of a size."""
+    return [Row.of(many, marks) for marks in least_marks(many, size) if is_least_wide(many, marks)]
+
+
 def families(many, size):
     """The ascending tuple of the lots of all families of two lots or more of this size."""
     need_size(many, size)
     need_at_most(many, 14)
     by_counts = {}
-    for marks in least_marks(many, size):
-        if is_least_wide(many, marks):
-            lot = Row.of(many, marks)
-            by_counts.setdefault(distances(lot), []).append(lot)
+    for lot in leasts_of_size(many, size):
+        by_counts.setdefault(distances(lot), []).append(lot)
     # each list begins with the least lot of all classes with these counts, in ascending order
     return tuple([tuple(lots) for lots in by_counts.values() if len(lots) > 1])
 

@@ -2,8 +2,7 @@
 
 from spanalike.basics import need_at_most, need_integer
 from spanalike.classes import least_wide
-from spanalike.families import is_least_wide, marks_of
-from spanalike.numbered import least_marks
+from spanalike.families import leasts_of_size, marks_of
 from spanalike.papers import Denial
 from spanalike.rows import Row
 from spanalike.span_bars import add_marks, counts_left, is_square
@@ -94,5 +93,4 @@ def is_nearly_flat(lot):
 def nearly_flat_lots(many, size):
     """The ascending tuple of the leasts of all wide classes of nearly flat lots of a size."""
     need_lots_of(many, size, 14)
-    leasts = [Row.of(many, marks) for marks in least_marks(many, size) if is_least_wide(many, marks)]
-    return tuple([least for least in leasts if is_nearly_flat(least)])
+    return tuple([least for least in leasts_of_size(many, size) if is_nearly_flat(least)])

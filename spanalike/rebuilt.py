@@ -2,11 +2,11 @@
 
 from spanalike.basics import need_at_most, need_many
 from spanalike.classes import least_of
-from spanalike.errors import BadPiece, BadRow
+from spanalike.errors import BadPiece
 from spanalike.fewer import are_counts
 from spanalike.papers import Paper
 from spanalike.pieces import counts_of_pieces
-from spanalike.rows import need_lot
+from spanalike.rows import need_marked_lot
 from spanalike.same_pieces import leasts_with
 
 
@@ -21,9 +21,7 @@ class Told(Paper):
 
 def need_marked(lot):
     """Raises what is wrong with a lot of 12 beats at most, with a mark at least."""
-    need_lot(lot, "lot")
-    if lot.total == 0:
-        raise BadRow("lot")
+    need_marked_lot(lot, "lot")
     need_at_most(lot.many, 12)
 
 

@@ -19,10 +19,31 @@ def need_lot(value, part):
         raise BadRow(part)
 
 
+def need_marked_lot(value, part):
+    """Raises BadRow for what is no Row that is a lot with a mark at least."""
+    need_lot(value, part)
+    if value.total == 0:
+        raise BadRow(part)
+
+
+def need_listed(values, part, most):
+    """Raises BadRow for what is no list of one Row or more, so many at most."""
+    if not is_listed(values) or not 1 <= len(values) <= most:
+        raise BadRow(part)
+    for value in values:
+        need_row(value, part)
+
+
 def need_same_beats(one, other):
     """Raises Misfit for rows of rings that do not have as many beats."""
     if one.many != other.many:
         raise Misfit("beats")
+
+
+def need_one_ring(rows):
+    """Raises Misfit for a list of rows that are not all of rings of as many beats."""
+    for row in rows:
+        need_same_beats(rows[0], row)
 
 
 def need_rows(one, other):

@@ -5,10 +5,9 @@ from itertools import combinations
 from spanalike.basics import need_at_most
 from spanalike.classes import least_wide
 from spanalike.errors import Impossible
-from spanalike.families import is_least_wide
-from spanalike.numbered import least_marks
+from spanalike.families import leasts_of_size
 from spanalike.papers import Denial, Paper
-from spanalike.rows import Row, need_lot
+from spanalike.rows import need_lot
 from spanalike.spans import counts_of
 
 
@@ -27,11 +26,6 @@ class Kin(Denial):
     def __init__(self, lot):
         Denial.__init__(self, "kin", lot)
         self.lot = self.parts[0]
-
-
-def leasts_of_size(many, size):
-    """The ascending list of the least lots of all wide classes of a size."""
-    return [Row.of(many, marks) for marks in least_marks(many, size) if is_least_wide(many, marks)]
 
 
 def others_of(lot):

@@ -24,7 +24,7 @@ def names_of_the_package():
         if file.endswith(".py") and file != "__init__.py":
             module = importlib.import_module("spanalike." + file[:-3])
             for name, value in vars(module).items():
-                if getattr(value, "__module__", None) == module.__name__:
+                if getattr(value, "__module__", None) == module.__name__ or name in ("DEEDS", "ASKS"):
                     names[name] = value
     return names
 
@@ -43,6 +43,13 @@ def examples():
     return found
 
 
+def shown_error(error):
+    """An error with its fields."""
+    told = [getattr(error, name) for name in fields_of(error)]
+    fields = ", ".join(shown_error(value) if isinstance(value, BeatError) else repr(value) for value in told)
+    return f"{type(error).__name__}({fields})"
+
+
 def shown(line, names):
     """What a line shows: its value, or its error."""
     try:
@@ -51,17 +58,17 @@ def shown(line, names):
         exec(line, names)
         return None
     except BeatError as error:
-        fields = ", ".join(repr(getattr(error, name)) for name in fields_of(error))
-        return f"raises {type(error).__name__}({fields})"
+        return "raises " + shown_error(error)
 
 
 class TestExamples(unittest.TestCase):
     def test_each_shows_what_it_shows(self):
         names = names_of_the_package()
         told = examples()
-        self.assertGreaterEqual(len(told), 80)
+        self.assertEqual(len(told), 132)
         for section, line, wanted in told:
             with self.subTest(section=section, line=line):
+                wanted = wanted.replace('"', "'") if wanted and wanted.startswith("raises ") else wanted
                 self.assertEqual(shown(line, names), wanted)
 
 

@@ -10,10 +10,8 @@ from spanalike.flats import Bent, Flat, flat_word, hall_turns
 from spanalike.rows import Row
 from spanalike.spans import distances, spans
 from spanalike.thin import MostThin, is_thin, most_thin, twice_come
-from tests.tools import NO_INTEGERS, NO_ROWS, Case, all_lots, cross, is_square, stretched, turned, units
+from tests.tools import LONG, NO_INTEGERS, NO_LOTS, Case, all_lots, cross, is_square, stretched, turned, units
 
-LONG = 10 ** 3999 + 9
-NO_LOTS = NO_ROWS + (Row([0, 2, 1]), Row([-1, 0]))
 FLATS = ((7, 3), (7, 4), (11, 5), (11, 6), (13, 4), (13, 9), (15, 7), (15, 8), (19, 9), (19, 10), (21, 5), (21, 16))
 
 

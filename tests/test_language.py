@@ -1,7 +1,8 @@
 """The package keeps to the subset of Python that it is written in.
 
 What is checked is narrower than the subset in places: what the package does not need at all
-(try, with, match, lambda, generators, sets but one kind, floats) is refused here altogether.
+(with, match, lambda, generators, sets but two kinds, floats, Python's own errors caught) is refused
+here altogether.
 """
 
 import ast
@@ -42,7 +43,7 @@ NO_ATTRIBUTES = set(
     " as_integer_ratio union difference".split()
 )
 REFUSED = (
-    ast.Try, ast.With, ast.Match, ast.Lambda, ast.GeneratorExp, ast.Yield, ast.YieldFrom, ast.Global, ast.Nonlocal,
+    ast.With, ast.Match, ast.Lambda, ast.GeneratorExp, ast.Yield, ast.YieldFrom, ast.Global, ast.Nonlocal,
     ast.Delete, ast.NamedExpr, ast.Set, ast.SetComp, ast.AsyncFunctionDef, ast.Await, ast.AsyncFor, ast.AsyncWith,
     ast.Div, ast.MatMult, ast.Import, ast.AnnAssign, ast.Starred, ast.Assert,
 )
@@ -71,6 +72,8 @@ def bound_in(function):
     for node in ast.walk(function):
         if isinstance(node, ast.Name) and isinstance(node.ctx, ast.Store):
             names.append(node.id)
+        if isinstance(node, ast.ExceptHandler) and node.name:
+            names.append(node.name)
     return names
 
 
@@ -99,6 +102,10 @@ def defined_names(tree):
 
 def classes():
     return {node.name: node for tree in TREES.values() for node in tree.body if isinstance(node, ast.ClassDef)}
+
+
+def own_errors():
+    return [node.name for node in TREES["errors.py"].body if isinstance(node, ast.ClassDef)]
 
 
 def own_methods():
@@ -203,6 +210,9 @@ class TestLanguage(unittest.TestCase):
                 if isinstance(node, ast.BinOp) and isinstance(node.op, ast.Pow):
                     self.assertIsInstance(node.right, ast.Constant)
                     self.assertLessEqual(node.right.value, 64)
+                if isinstance(node, ast.Try):
+                    self.assertEqual((node.finalbody, node.orelse), ([], []))
+                    self.assertTrue(all(handler.type.id in own_errors() for handler in node.handlers))
                 if isinstance(node, ast.Raise):
                     self.assertIsInstance(node.exc, ast.Call)
                     self.assertIsNone(node.cause)
@@ -223,7 +233,15 @@ class TestLanguage(unittest.TestCase):
                 self.assertIsInstance(node, (ast.ImportFrom, ast.FunctionDef, ast.ClassDef, ast.Assign))
                 if isinstance(node, ast.Assign):
                     self.assertEqual(len(node.targets), 1)
-                    ast.literal_eval(node.value)
+                    self.plain_value(node, [item.name for item in functions(tree) if item.lineno < node.lineno])
+
+    def plain_value(self, node, above):
+        """What is assigned is a literal, or a dict of functions that are defined above."""
+        if isinstance(node.value, ast.Dict) and all(isinstance(item, ast.Name) for item in node.value.values):
+            self.assertTrue(all(item.id in above for item in node.value.values))
+            self.assertTrue(all(isinstance(item, ast.Constant) for item in node.value.keys))
+        else:
+            ast.literal_eval(node.value)
 
     def test_names(self):
         for name, tree in self.each():
@@ -262,7 +280,7 @@ class TestLanguage(unittest.TestCase):
                 if isinstance(node, ast.Call) and isinstance(node.func, ast.Attribute):
                     self.assertIn(node.func.attr, METHODS | methods)
                 if isinstance(node, ast.Call) and isinstance(node.func, ast.Name):
-                    self.assertIn(node.func.id, BUILTINS | known)
+                    self.assertIn(node.func.id, BUILTINS | known | local)
                     self.assertTrue(all(word.arg == "key" for word in node.keywords) or node.func.id in known)
                 if isinstance(node, ast.Attribute) and isinstance(node.ctx, ast.Store):
                     self.assertNotIn(node.attr, NO_ATTRIBUTES | methods)
@@ -298,14 +316,17 @@ class TestLanguage(unittest.TestCase):
                     base = isinstance(around, ast.ClassDef)
                     method = isinstance(around, ast.Attribute) and isinstance(above[around], ast.Call)
                     compared = isinstance(around, ast.Compare) and self.asks_the_class(around.left)
-                    self.assertTrue(called or asked or base or method or compared, (node.id, node.lineno))
+                    caught = isinstance(around, ast.ExceptHandler)
+                    self.assertTrue(called or asked or base or method or compared or caught, (node.id, node.lineno))
 
     def test_kept_sets(self):
         for name, tree in self.each():
             above = parents(tree)
             for node in ast.walk(tree):
                 if isinstance(node, ast.Call) and isinstance(node.func, ast.Name) and node.func.id == "set":
-                    self.assertIsInstance(above[node], ast.Assign)
+                    around = above[node]
+                    is_sorted = isinstance(around, ast.Call) and around.func.id == "sorted"
+                    self.assertTrue(is_sorted or isinstance(around, ast.Assign))
 
     def test_iterated_at_once(self):
         for name, tree in self.each():

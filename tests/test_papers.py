@@ -4,11 +4,16 @@ from spanalike.alike import UnlikeSpan
 from spanalike.alike_strips import Factors, UnlikeDistance
 from spanalike.asking import Asked, Known
 from spanalike.bridges import Bridge
+from spanalike.deep import Deep, Equals
+from spanalike.evens import Even, Uneven
 from spanalike.families import Family
 from spanalike.flat_lots import NoFlat
 from spanalike.flats import Bent, Flat
+from spanalike.heard_lots import Undoing
+from spanalike.hushed import Hush, HushBar, Loud
 from spanalike.judged import Always, LotKept, Never, NoLotKept, Open
 from spanalike.papers import Denial, Paper, fixed
+from spanalike.probes import Deaf, TellsAll
 from spanalike.quotients import NoQuotient, Quotient
 from spanalike.rebuilt import Told
 from spanalike.rows import Row
@@ -16,6 +21,7 @@ from spanalike.same_pieces import SamePieces, UnlikePiece
 from spanalike.span_bars import CountsBar, HasLot, NoLot
 from spanalike.telling import Kin, Telling
 from spanalike.thin import MostThin
+from spanalike.together import BentTogether, FlatTogether, TogetherBar
 from spanalike.told_strips import StripBar
 from spanalike.wrong import MoreWrong, OneWrong, Right
 from tests.tools import Case
@@ -32,6 +38,11 @@ PAPERS = (
     (Right, ("lot",), True), (OneWrong, ("rows",), False), (MoreWrong, (), False),
     (Asked, ("distance", "most"), True), (Known, ("lot",), True), (Flat, ("number",), True),
     (Bent, ("one", "other"), False), (NoFlat, ("reason",), False), (MostThin, ("lot", "reason"), True),
+    (Even, ("turn",), True), (Uneven, ("total", "greatest"), False), (Deep, ("order",), True),
+    (Equals, ("one", "other"), False), (TellsAll, ("numbers",), True), (Deaf, ("divisor", "one", "other"), False),
+    (Undoing, ("numbers", "by"), True), (FlatTogether, ("number",), True), (BentTogether, ("one", "other"), False),
+    (TogetherBar, ("kind", "number"), False), (Hush, ("number",), True), (Loud, ("distance",), False),
+    (HushBar, ("kind", "number"), False),
 )
 
 

@@ -10,7 +10,10 @@ from spanalike.rows import Row
 NO_INTEGERS = (True, False, None, "1", "", 1.0, 2.5, [1], (1,), {}, {1: 1}, b"1", object())
 NO_LISTS = (True, None, 5, "12", "", {1: 2}, {1, 2}, b"12", range(3), object())
 NO_ROWS = (None, True, 5, "1 0", [1, 0], (1, 0), {}, object())
+NO_LOTS = NO_ROWS + (Row([0, 2, 1]), Row([-1, 0]))
+NO_MARKED = NO_LOTS + (Row([0, 0]), Row([0] * 24))
 NO_TEXTS = (None, True, 5, ["1", "0"], (), b"1 0", object())
+LONG = 10 ** 3999 + 9
 
 
 def fields_of(error):
