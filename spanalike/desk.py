@@ -4,7 +4,7 @@ from spanalike.desk_asks import answer_of
 from spanalike.desk_deeds import changed
 from spanalike.desk_lines import DEEDS, read_line
 from spanalike.errors import BadLine, BeatError, Nothing
-from spanalike.shelves import Shelf
+from spanalike.shelves import Shelf, kept_as, restored
 
 
 def tell(desk, line):
@@ -13,7 +13,7 @@ def tell(desk, line):
     if told[0] not in DEEDS:
         return answer_of(desk.shelf, line)
     later, answer = changed(desk.shelf, line)
-    desk.past = desk.past + (desk.shelf,)
+    desk.past = desk.past + (kept_as(desk.shelf, told[1]),)
     desk.story = desk.story + (line,)
     desk.shelf = later
     desk.undone = ()
@@ -42,8 +42,8 @@ def set_as(desk, other):
 class Desk:
     """What is kept, and the story of the deed lines.
 
-    `past` has the shelf ahead of each line of the story, `undone` pairs of a line that was taken
-    back and the shelf behind it, the last one last.
+    `past` has for each line of the story what it takes to take it back, `undone` the lines that were
+    taken back, the last one last.
     """
 
     def __init__(self):
@@ -81,8 +81,8 @@ class Desk:
         if len(self.story) == 0:
             raise Nothing()
         line = self.story[-1]
-        self.undone = self.undone + ((line, self.shelf),)
-        self.shelf = self.past[-1]
+        self.undone = self.undone + (line,)
+        self.shelf = restored(self.shelf, self.past[-1])
         self.story = self.story[:-1]
         self.past = self.past[:-1]
         return line
@@ -91,11 +91,9 @@ class Desk:
         """Does again the line that was taken back last; this line."""
         if len(self.undone) == 0:
             raise Nothing()
-        line, later = self.undone[-1]
-        self.past = self.past + (self.shelf,)
-        self.shelf = later
-        self.story = self.story + (line,)
-        self.undone = self.undone[:-1]
+        line, left = self.undone[-1], self.undone[:-1]
+        tell(self, line)
+        self.undone = left
         return line
 
     def twin(self):

@@ -92,6 +92,25 @@ def without_thing(shelf, name):
     return shelf_of(shelf.names[:place] + shelf.names[place + 1:], shelf.things[:place] + shelf.things[place + 1:])
 
 
+def kept_as(shelf, name):
+    """What `restored` needs of a name ahead of a line: the name, its place and its thing, or None, None."""
+    if name not in shelf.names:
+        return name, None, None
+    place = shelf.names.index(name)
+    return name, place, shelf.things[place][1]
+
+
+def restored(shelf, kept):
+    """The shelf ahead of a line that put in, changed or took out the thing under one name."""
+    name, place, thing = kept
+    if place is None:
+        return without_thing(shelf, name)
+    if name in shelf.names:
+        return with_changed(shelf, name, thing)
+    names = shelf.names[:place] + (name,) + shelf.names[place:]
+    return shelf_of(names, shelf.things[:place] + ((name, thing),) + shelf.things[place:])
+
+
 def need_shelf(value):
     """Raises BadDesk for what is no Shelf."""
     if not isinstance(value, Shelf):
