@@ -5,7 +5,7 @@ from spanalike.checks import divisors_of
 from spanalike.deaf import need_probes, two_lots
 from spanalike.errors import Impossible
 from spanalike.papers import Denial, Paper
-from spanalike.rows import need_listed, need_lot, need_one_ring, need_row, need_same_beats
+from spanalike.rows import need_listed, need_lot, need_one_ring, need_row
 from spanalike.shares import is_silent
 from spanalike.spans import cross_spans
 
@@ -32,7 +32,6 @@ def heard(probe, lot):
     """The tuple of what a probe hears of a lot."""
     need_row(probe, "probe")
     need_lot(lot, "lot")
-    need_same_beats(probe, lot)
     return cross_spans(probe, lot)
 
 

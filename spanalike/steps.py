@@ -1,8 +1,6 @@
 """Steps from mark to mark round a ring, and lots that a step makes."""
 
 from spanalike.basics import need_integer, need_many
-from spanalike.checks import first_twice
-from spanalike.errors import Twice
 from spanalike.rows import Row, need_marked_lot
 
 
@@ -46,11 +44,7 @@ def made(many, step, size):
     need_many(many)
     need_integer(step, "step", 1, many - 1)
     need_integer(size, "size", 1, many)
-    beats = beats_made(many, 0, step, size)
-    again = first_twice(beats)
-    if again is not None:
-        raise Twice(again)
-    return Row.of(many, beats)
+    return Row.of(many, beats_made(many, 0, step, size))
 
 
 def is_made(lot, step):

@@ -389,7 +389,8 @@ class TestShown(Case):
         self.assertIs(shows_judged(Book(2), MarkedBeat(0), Open(one, other)), True)
         for value in (Open(other, one), Open(one, None), Open(None, other), Open(one.numbers, other), Open(one, ANY),
                       Open(ANY, other), Open(Row([1, 0, 0]), other), Open(one, Row([0, 1, 0])),
-                      Open(Row([2, 0]), other), Open(one, Row([0, 2])), Paper("open", one, other), (one, other), Open(one, one)):
+                      Open(Row([2, 0]), other), Open(one, Row([0, 2])), Paper("open", one, other), (one, other),
+                      Open(one, one)):
             self.assertIs(shows_judged(Book(2), MarkedBeat(0), value), False)
 
     def test_of_a_book_that_no_lot_keeps_nothing_is_right(self):

@@ -50,6 +50,8 @@ class TestShowsFlat(Case):
     def test_refused(self):
         for value in NO_LOTS:
             self.refused(BadRow, ("lot",), shows_flat, value, None)
+            self.refused(BadRow, ("lot",), shows_flat, value, Flat(1))
+            self.refused(BadRow, ("lot",), shows_flat, value, Bent(1, 2))
 
 
 class TestShowsNoFlat(Case):
@@ -81,6 +83,7 @@ class TestShowsNoFlat(Case):
             self.refused(BadNumber, ("many",), shows_no_flat, value, None, None)
         for value in NO_INTEGERS + (-1, 25, LONG):
             self.refused(BadNumber, ("size",), shows_no_flat, 24, value, None)
+            self.refused(BadNumber, ("size",), shows_no_flat, 24, value, NoFlat("count"))
         for many in (23, 24, 25, LONG):
             for value in (None, NoFlat("count"), NoFlat("listed"), 5):
                 self.refused(TooMany, ("beats", 22), shows_no_flat, many, 4, value)
@@ -111,7 +114,9 @@ class TestShowsMostThin(Case):
         for value in (MostThin(less, "count"), MostThin(lot, "listed"), MostThin(lot, ANY), MostThin(lot, None),
                       MostThin(lot, ["count"]), MostThin(ANY, "count"), MostThin((0, 1, 4, 6), "count"),
                       MostThin(lot.times(2), "count"), MostThin(Row.of(13, [0, 1, 4, 6]), "count"),
-                      MostThin(Row.of(12, [0, 1, 2, 6]), "count"), MostThin(None, "count"), MostThin("lot", "count"),
+                      MostThin(Row.of(12, [0, 1, 2, 6]), "count"), MostThin(None, "count"),
+                      MostThin(Row([2, 1, 1] + [0] * 9), "count"), MostThin(Row([3, 1] + [0] * 10), "count"),
+                      MostThin("lot", "count"),
                       Paper("mostthin", lot, "count"), lot, None, True, False, ANY, MostThin, Flat(1), ("count",)):
             self.assertIs(shows_most_thin(12, value), False)
 
@@ -120,3 +125,4 @@ class TestShowsMostThin(Case):
             self.refused(BadNumber, ("many",), shows_most_thin, value, None)
         for many in (25, 999999, LONG):
             self.refused(TooMany, ("beats", 24), shows_most_thin, many, None)
+            self.refused(TooMany, ("beats", 24), shows_most_thin, many, MostThin(Row([1, 0]), "count"))

@@ -86,8 +86,8 @@ BENT = (
 
 class TestWords(Case):
     def test_words(self):
-        self.just(DEEDS, ("row", "lot", "strip", "book", "turn", "mirror", "stretch", "leave", "product", "fold", "tell",
-                          "strike", "drop"))
+        self.just(DEEDS, ("row", "lot", "strip", "book", "turn", "mirror", "stretch", "leave", "product", "fold",
+                          "tell", "strike", "drop"))
         self.just(ASKS, ("names", "show", "spans", "counts", "alike", "kin", "silent", "pieces", "told", "flat", "even",
                          "deep", "hears", "tells", "together", "hush", "kept", "is", "next", "idle", "quarrels"))
 
@@ -103,7 +103,7 @@ class TestReadLine(Case):
         for line, item in BENT:
             with self.subTest(line=line):
                 self.refused(BadText, (0, item), read_line, line)
-        self.assertEqual({line.split(" ")[0] for line, _ in BENT if line.split(" ")[0] in DEEDS + ASKS}, set(DEEDS + ASKS))
+        self.assertLessEqual(set(DEEDS + ASKS), {line.split(" ")[0] for line, _ in BENT})
 
     def test_each_item_of_each_line(self):
         for line, told in READ:

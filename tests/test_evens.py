@@ -102,7 +102,8 @@ class TestEvens(Case):
         for value in NO_INTEGERS + (0, -1, 9, LONG):
             self.refused(BadNumber, ("size",), even_lot, 8, value)
         for function in (distance_sum, even_word, steps, uneven_steps, makers, lambda lot: step_lengths(lot, None),
-                         lambda lot: shows_even(lot, None)):
+                         lambda lot: shows_even(lot, None), lambda lot: shows_even(lot, Even(0)),
+                         lambda lot: shows_even(lot, Uneven(1, 2))):
             for value in NO_MARKED:
                 self.refused(BadRow, ("lot",), function, value)
 
@@ -201,7 +202,8 @@ class TestDeep(Case):
     def test_refused(self):
         for value in NO_LOTS:
             self.refused(BadRow, ("lot",), deep_word, value)
-            self.refused(BadRow, ("lot",), shows_deep, value, None)
+            for paper in (None, Deep((1,)), Equals(1, 2)):
+                self.refused(BadRow, ("lot",), shows_deep, value, paper)
         for value in NO_INTEGERS + (1, 0, -5):
             self.refused(BadNumber, ("many",), deep_lots, value)
         for many in (15, 24, 25, LONG):
@@ -270,7 +272,8 @@ class TestShowsDeep(Case):
             self.assertIs(shows_deep(deep, value), False)
         self.assertIs(shows_deep(equal, Equals(2, 4)), True)
         for value in NO_PAPERS + (Equals(4, 2), Equals(2, 4.0), Equals(True, 3), Equals(ANY, 4), Equals(2, ANY),
-                                  Equals("2", "4"), Equals(None, None), Equals((2,), (4,)), Equals(2, 2), Equals(1, LONG),
+                                  Equals("2", "4"), Equals(None, None), Equals((2,), (4,)), Equals(2, 2),
+                                  Equals(1, LONG),
                                   Equals(-1, 1), Deep((1, 2, 3, 4)), Deep((3, 1, 2, 4)), Even(0)):
             self.assertIs(shows_deep(equal, value), False)
 

@@ -31,7 +31,8 @@ def some_lists(many):
     """Lists of one to eight probes."""
     told = some_probes(many)
     found = [[probe] for probe in told] + [list(pair) for pair in itertools.combinations(told, 2)]
-    return found + [list(three) for three in itertools.combinations(told, 3)][::3] + [told[:8], [told[0]] * 8, told[-8:]]
+    found += [list(three) for three in itertools.combinations(told, 3)][::3]
+    return found + [told[:8], [told[0]] * 8, told[-8:]]
 
 
 def heard_alike(probes, one, other):
@@ -82,7 +83,8 @@ class TestRefused(Case):
         return (
             deaf_divisors, tells_all, fewest_probes, lambda probes: parted_by(probes, None, None),
             lambda probes: lots_heard(probes, None), lambda probes: many_heard(probes, None),
-            lambda probes: shows_tells(probes, None),
+            lambda probes: shows_tells(probes, None), lambda probes: shows_tells(probes, TellsAll((0,))),
+            lambda probes: shows_tells(probes, Deaf(1, ONE, PAIR)),
         )
 
     def test_probes(self):
@@ -98,6 +100,7 @@ class TestRefused(Case):
                              lambda probes: many_heard(probes, None), lambda probes: shows_tells(probes, None)):
                 self.refused(Misfit, ("beats",), function, probes)
             self.refused(Misfit, ("beats",), parted_by, probes, ONE, ONE)
+            self.refused(Misfit, ("beats",), parted_by, probes, ONE, PAIR)
         self.refused(Misfit, ("beats",), parted_by, [PAIR], Row([0, 1, 0]), PAIR)
         self.refused(Misfit, ("beats",), parted_by, [PAIR], PAIR, Row([0, 1, 0]))
         self.refused(Misfit, ("beats",), parted_by, [PAIR], Row([0, 1, 0]), Row([0, 1, 0]))
@@ -113,6 +116,7 @@ class TestRefused(Case):
             self.refused(BadRow, ("probe",), undoing, value)
             self.refused(BadRow, ("probe",), heard_from, value, None)
             self.refused(BadRow, ("probe",), shows_undoing, value, None)
+            self.refused(BadRow, ("probe",), shows_undoing, value, Undoing((1, 0), 1))
         for value in NO_LOTS:
             self.refused(BadRow, ("lot",), heard, PAIR, value)
         self.refused(Misfit, ("beats",), heard, PAIR, Row([0, 1, 0]))
@@ -325,7 +329,9 @@ class TestShowsTells(Case):
                       Deaf(None, one, other), Deaf(2, one, one), Deaf(2, ANY, other), Deaf(2, one, ANY),
                       Deaf(2, one.times(2), other.times(2)), Deaf(2, (0, 2), (1, 3)), Deaf(2, None, None),
                       Deaf(2, one.numbers, other.numbers), Deaf(2, Row([1] * 5), Row([0] * 5)), Deaf(4, one, other),
-                      Deaf((2,), one, other), Deaf(LONG, one, other), Denial("deaf", 2, one, other)):
+                      Deaf((2,), one, other), Deaf(2, Row([2, -1, 2, -1]), other), Deaf(2, one, Row([2, -1, 2, -1])),
+                      Deaf(2, None, other), Deaf(2, one, None), Deaf(2, "one", other), Deaf(2, one, (1, 3)),
+                      Deaf(LONG, one, other), Denial("deaf", 2, one, other)):
             self.assertIs(shows_tells([PAIR], value), False)
         # True is no divisor, though the lots are heard alike
         self.assertIs(shows_tells([ZEROS], Deaf(1, one, other)), True)

@@ -14,7 +14,8 @@ from spanalike.together import (BentTogether, FlatTogether, TogetherBar, added_s
 from tests.tools import LONG, NO_INTEGERS, NO_LISTS, NO_LOTS, Case, all_lots, all_marks, cross
 
 ONE, OTHER = Row.of(9, [0, 1]), Row.of(9, [0, 2, 5])
-FUNCTIONS = (added_spans, flat_together, lambda lots: shows_together(lots, None))
+FUNCTIONS = (added_spans, flat_together, lambda lots: shows_together(lots, None),
+             lambda lots: shows_together(lots, FlatTogether(1)), lambda lots: shows_together(lots, BentTogether(1, 2)))
 
 
 def plain_added(lots):
@@ -62,6 +63,9 @@ def some_sizes():
             step = 1 if many < 9 else 3
             for sizes in itertools.product(range(0, many + 1, step), repeat=count):
                 yield many, sizes
+    # the bounds by the size, and by what is left out, decide here
+    for many, sizes in ((10, (0, 3, 3, 3)), (10, (10, 3, 3, 3)), (14, (0, 3, 5)), (14, (3, 5, 14)), (14, (14, 9, 3))):
+        yield many, sizes
     yield 24, (12,) * 6
     yield 24, (0, 24, 1, 23, 12, 7)
 
@@ -82,7 +86,8 @@ class TestTogether(Case):
                 self.just(found.parts, (told[1],))
             else:
                 half = lots[0].many // 2
-                unlike = [pair for pair in itertools.combinations(range(1, half + 1), 2) if told[pair[0]] != told[pair[1]]]
+                pairs = itertools.combinations(range(1, half + 1), 2)
+                unlike = [(one, other) for one, other in pairs if told[one] != told[other]]
                 self.assertIs(type(found), BentTogether)
                 self.just(found.parts, min(unlike))
             self.assertTrue(found == flat_together(tuple(lots)))
@@ -114,9 +119,12 @@ class TestBar(Case):
                 self.just(found.parts, wanted)
             self.assertIs(shows_together_bar(many, sizes, found), True)
         self.assertEqual(kinds, {"count", "squares"})
+        self.just(together_bar(14, [3, 5, 14]).parts, ("squares", 6))
+        self.just(together_bar(10, [0, 3, 3, 3]).parts, ("squares", 7))
 
     def test_refused(self):
-        for function in (together_bar, lambda many, sizes: shows_together_bar(many, sizes, None)):
+        for function in (together_bar, lambda many, sizes: shows_together_bar(many, sizes, None),
+                         lambda many, sizes: shows_together_bar(many, sizes, TogetherBar("count", 1))):
             for value in NO_INTEGERS + (1, 25, 0, LONG):
                 self.refused(BadNumber, ("many",), function, value, None)
             for value in NO_LISTS + ([], (), [1] * 7, [9], [-1], [1, 2, LONG]):
@@ -219,7 +227,8 @@ class TestShowsTogether(Case):
                                   FlatTogether(None), FlatTogether((1,)), FlatTogether(LONG), BentTogether(1, 2)):
             self.assertIs(shows_together([ONE, OTHER], value), False)
         self.assertIs(shows_together([ONE, OTHER], FlatTogether(1)), True)
-        for value in NO_PAPERS + (BentTogether(True, 4), BentTogether(1, 4.0), BentTogether(1, ANY), BentTogether(ANY, 4),
+        for value in NO_PAPERS + (BentTogether(True, 4), BentTogether(1, 4.0), BentTogether(1, ANY),
+                                  BentTogether(ANY, 4),
                                   BentTogether("1", "4"), BentTogether(None, 4), BentTogether((1,), (4,)),
                                   BentTogether(4, 1), BentTogether(1, 8), BentTogether(1, LONG), FlatTogether(2)):
             self.assertIs(shows_together([ONE, ONE], value), False)
@@ -254,7 +263,8 @@ class TestShowsTogetherBar(Case):
 class TestFacts(Case):
     def test_the_common_span(self):
         for lots in some_lists():
-            self.assertEqual(together_bar(lots[0].many, [lot.total for lot in lots]) is not None and are_flat(lots), False)
+            is_barred = together_bar(lots[0].many, [lot.total for lot in lots]) is not None
+            self.assertFalse(is_barred and are_flat(lots))
             word = flat_together(lots)
             if word:
                 many = lots[0].many
